@@ -283,13 +283,22 @@ func worth(things []oneThing, f impl.File, root int) (int, bool) {
 		x := things[placeOf(things, node.Name)]
 		return worth(things, x.file, x.root)
 	}
-	var parts []*big.Int
+	var parts []int
 	for _, kid := range node.Kids {
 		value, ok := worth(things, f, kid)
 		if !ok {
 			return 0, false
 		}
-		parts = append(parts, big.NewInt(int64(value)))
+		parts = append(parts, value)
+	}
+	return combined(node.Kind, parts)
+}
+
+// combined: what a sign makes of its parts, by numbers of any length; false if something is divided by zero.
+func combined(kind int, numbers []int) (int, bool) {
+	var parts []*big.Int
+	for _, n := range numbers {
+		parts = append(parts, big.NewInt(int64(n)))
 	}
 	out := new(big.Int)
 	one := func(holds bool) {
@@ -297,7 +306,7 @@ func worth(things []oneThing, f impl.File, root int) (int, bool) {
 			out.SetInt64(1)
 		}
 	}
-	switch node.Kind {
+	switch kind {
 	case impl.NNeg:
 		out.Neg(parts[0])
 	case impl.NNot:
@@ -314,7 +323,7 @@ func worth(things []oneThing, f impl.File, root int) (int, bool) {
 		}
 		rest := new(big.Int)
 		out.QuoRem(parts[0], parts[1], rest)
-		if node.Kind == impl.NRem {
+		if kind == impl.NRem {
 			out = rest
 		}
 	case impl.NEq:
