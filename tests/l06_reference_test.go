@@ -75,7 +75,7 @@ func inPlaces(numbers []int, isAhead func(a, b int) bool) []int {
 }
 
 func wantResolve(list []impl.Binding, flags []string, w impl.Want) ([]int, int) {
-	if len(list) > 4096 || len(flags) > 4096 || len(w.Key) > 65536 || len(w.Tag) > 65536 {
+	if len(list) > 4096 || len(flags) > 4096 {
 		return nil, impl.ErrLong
 	}
 	if !areSomeBindings(list) || !isOneWant(w) {

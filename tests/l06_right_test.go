@@ -24,13 +24,13 @@ func TestLimitsOfChapter7(t *testing.T) {
 // anyNumbers: of bindings, scopes, modes and ranks.
 var anyNumbers = []int{-1 << 63, -1<<63 + 1, -1 << 32, -4, -3, -2, -1, 0, 1, 2, 3, 4, 5, 6, 60, 1<<32 + 1, 1<<32 + 2, 1 << 62, 1<<63 - 2, 1<<63 - 1}
 
-// longText is as long as a text may be, tooLong a byte longer.
+// longText is as long as a text that is handed in by itself may be, tooLong a byte longer. Within a want neither is more than a text that is no name.
 var longText, tooLong = strings.Repeat("n", impl.MaxText), strings.Repeat("n", impl.MaxText+1)
 
-// checkBound: each call of chapter 7 that has a code answers that one alone, whatever is wanted that is not too long.
+// checkBound: each call of chapter 7 that has a code answers that one alone, whatever is wanted.
 func checkBound(t *testing.T, what string, list []impl.Binding, flags []string, want int) {
 	t.Helper()
-	for _, w := range []impl.Want{{}, {Key: "k", Mode: impl.WantOne}, {Key: "nope", Tag: "t", Mode: impl.WantAll}, {Key: "k", Mode: impl.WantMaybe}, {Key: "k", Tag: "t", Mode: impl.WantLazy}, {Key: "k", Mode: 5}, {Key: "1", Tag: "2", Mode: -1 << 63}, {Key: longText, Tag: longText, Mode: 1}} {
+	for _, w := range []impl.Want{{}, {Key: "k", Mode: impl.WantOne}, {Key: "nope", Tag: "t", Mode: impl.WantAll}, {Key: "k", Mode: impl.WantMaybe}, {Key: "k", Tag: "t", Mode: impl.WantLazy}, {Key: "k", Mode: 5}, {Key: "1", Tag: "2", Mode: -1 << 63}, {Key: longText, Tag: longText, Mode: 1}, {Key: tooLong, Mode: impl.WantOne}, {Key: "k", Tag: tooLong, Mode: 9}} {
 		if found, code := impl.Resolve(list, flags, w); code != want || len(found) > 0 {
 			t.Errorf("%s: Resolve of %s: %v %d, not %d", what, showWant(w), found, code, want)
 		}
@@ -45,11 +45,6 @@ func checkBound(t *testing.T, what string, list []impl.Binding, flags []string, 
 	}
 	if names, code := impl.Circle(list, flags); code != want || len(names) > 0 {
 		t.Errorf("%s: Circle of %d names %d, not %d", what, len(names), code, want)
-	}
-	for _, w := range []impl.Want{{Key: tooLong, Mode: impl.WantOne}, {Key: "k", Tag: tooLong, Mode: 9}} {
-		if found, code := impl.Resolve(list, flags, w); code != impl.ErrLong || len(found) > 0 {
-			t.Errorf("%s: Resolve of a text too long: %v %d", what, found, code)
-		}
 	}
 }
 
@@ -227,10 +222,21 @@ func TestBindingsWhichCodeCounts(t *testing.T) {
 	if impl.BindingsOK(manyBindings(4097)) {
 		t.Error("BindingsOK of a list too long")
 	}
-	for _, list := range [][]impl.Binding{nil, right} {
-		for _, w := range []impl.Want{{Key: strings.Repeat("k", 65537), Mode: 1}, {Key: "k", Tag: strings.Repeat("t", 65537), Mode: 2}, {Key: strings.Repeat("\xff", 1<<24), Mode: 0}, {Tag: strings.Repeat("\xff", 1<<24), Mode: 77}} {
-			if found, code := impl.Resolve(list, flags[:2], w); code != impl.ErrLong || len(found) > 0 {
-				t.Errorf("a want too long: %v %d", found, code)
+}
+
+// A want's texts are within a struct: however long they are, they make it a wrong one and no more.
+func TestResolveOfLongWants(t *testing.T) {
+	for _, list := range [][]impl.Binding{nil, bindingsOf(t, "a:k +nope | b:k")} {
+		for _, size := range []int{41, 65535, 65536, 65537, 1 << 24} {
+			for _, letter := range []string{"k", "\xff"} {
+				long := strings.Repeat(letter, size)
+				for mode := 0; mode <= 5; mode++ {
+					for _, w := range []impl.Want{{Key: long, Mode: mode}, {Key: "k", Tag: long, Mode: mode}, {Key: long, Tag: long, Mode: mode}} {
+						if found, code := impl.Resolve(list, flagsOf("f g"), w); code != impl.ErrBad || len(found) > 0 {
+							t.Errorf("a want of mode %d with a text of %d bytes: %v %d", mode, size, found, code)
+						}
+					}
+				}
 			}
 		}
 	}
@@ -251,7 +257,7 @@ func TestResolveOfWrongWants(t *testing.T) {
 		check(impl.Want{Key: "k", Tag: name, Mode: impl.WantOne}, true)
 	}
 	for _, text := range notNames() {
-		for mode := 1; mode <= 4 && len(text) <= impl.MaxText; mode++ {
+		for mode := 1; mode <= 4; mode++ {
 			check(impl.Want{Key: text, Mode: mode}, false)
 			check(impl.Want{Key: text, Tag: "t", Mode: mode}, false)
 			check(impl.Want{Key: "k", Tag: text, Mode: mode}, text == "")
