@@ -217,6 +217,20 @@ func valueOf(digits string) int {
 	return value
 }
 
+// numberOf reads a number's text as the document's first chapter tells it, with its sign.
+func numberOf(text string) (int, bool) {
+	digits, isBelow := strings.CutPrefix(text, "-")
+	switch {
+	case digits == "", len(digits) > maxDigits, runEnd(digits, 0, isDigit) < len(digits):
+		return 0, false
+	case digits[0] == '0' && text != "0":
+		return 0, false
+	case isBelow:
+		return -valueOf(digits), true
+	}
+	return valueOf(digits), true
+}
+
 func (s *scanner) quoted() (int, int) {
 	text, code, place := readText(s.text, s.at)
 	if code != OK {
